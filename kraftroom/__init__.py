@@ -1,0 +1,1 @@
+"""Kraftroom: codes for messages."""
