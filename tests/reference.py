@@ -169,3 +169,170 @@ def least_cost_of_many(weights, limit):
                     above[key] = price
         best = above
     return best[(1, len(weights))]
+
+
+def shows(weights, limit, lengths, certificate):
+    """Whether a certificate shows that lengths have the least cost, as point 03.1 says it."""
+    if len(lengths) != len(weights):
+        return False
+    if not all(1 <= length <= limit for length in lengths) or share(lengths) > 1:
+        return False
+    if (0, 0, 1) not in certificate:
+        return False
+    for stage in certificate:
+        for _, price, following in stage_choices(weights, limit, stage):
+            if following is not None and following not in certificate:
+                return False
+            if certificate[stage] > price + (0 if following is None else certificate[following]):
+                return False
+    return certificate[(0, 0, 1)] == cost_of(weights, lengths)
+
+
+def certificate_for(weights, limit):
+    """A certificate of all stages from the first one on: the values, or a great number where there is none."""
+    known = {None: 0}
+
+    def value(stage):
+        if stage not in known:
+            known[stage] = min((price + value(following)
+                                for _, price, following in stage_choices(weights, limit, stage)), default=10 ** 12)
+        return known[stage]
+
+    value((0, 0, 1))
+    del known[None]
+    return known
+
+
+def all_alphabetic_lengths(count):
+    """The lengths of all alphabetic codes for a number of symbols, with words of at most `count - 1` bits."""
+    every = sorted(bits for length in range(count) for bits in all_bits(length))
+    found = set()
+
+    def extend(given, at):
+        if len(given) == count:
+            found.add(tuple(len(word) for word in given))
+            return
+        for place in range(at, len(every)):
+            word = every[place]
+            if not given or word[:len(given[-1])] != given[-1]:
+                extend(given + [word], place + 1)
+
+    extend([], 0)
+    return found
+
+
+def range_words(weights, start, end, word):
+    """The words and the value of a range, as point 04.2 says them."""
+    if end == start + 1:
+        return [word], 0
+    best = None
+    for middle in range(start + 1, end):
+        left, value = range_words(weights, start, middle, word + [0])
+        right, other = range_words(weights, middle, end, word + [1])
+        if best is None or value + other < best[1]:
+            best = left + right, value + other
+    return best[0], best[1] + sum(weights[start:end])
+
+
+def least_alphabetic_cost(weights):
+    """The least cost of all alphabetic codes, by the way of Garsia and Wachs, which looks at no ranges."""
+    row = list(weights)
+    total = 0
+    while len(row) > 1:
+        at = next((at for at in range(1, len(row) - 1) if row[at - 1] <= row[at + 1]), len(row) - 1)
+        joined = row[at - 1] + row[at]
+        total += joined
+        del row[at - 1:at + 1]
+        place = at - 1
+        while place > 0 and row[place - 1] < joined:
+            place -= 1
+        row.insert(place, joined)
+    return total
+
+
+def table_shows(weights, cost, table):
+    """Whether a table shows that a cost is the least one, as point 04.4 says it."""
+    count = len(weights)
+    for start in range(count):
+        if table[(start, start + 1)] > 0:
+            return False
+        for end in range(start + 2, count + 1):
+            for middle in range(start + 1, end):
+                if table[(start, end)] > sum(weights[start:end]) + table[(start, middle)] + table[(middle, end)]:
+                    return False
+    return table[(0, count)] == cost
+
+
+class FixedWeights:
+    """The weights of a Counts model, told by the list of the symbols that it learned."""
+
+    def __init__(self, weights):
+        self.weights = weights
+
+    def after(self, learned):
+        return self.weights
+
+
+class LearnedWeights:
+    """The weights of a Learner, told by the list of the symbols that it learned."""
+
+    def __init__(self, size, step, limit):
+        self.size = size
+        self.step = step
+        self.limit = limit
+
+    def after(self, learned):
+        weights = [1] * self.size
+        for symbol in learned:
+            weights[symbol] += self.step
+            if sum(weights) > self.limit:
+                weights = [(weight + 1) // 2 for weight in weights]
+        return weights
+
+
+class ContextWeights:
+    """The weights of a Context, told by the list of the symbols that it learned."""
+
+    def __init__(self, size, step, limit):
+        self.learner = LearnedWeights(size, step, limit)
+
+    def after(self, learned):
+        before = [0] + learned
+        return self.learner.after([symbol for last, symbol in zip(before, learned) if last == before[-1]])
+
+
+def part_of(told, message):
+    """The least fraction of the interval of a message, and the one behind it."""
+    low, width = Fraction(0), Fraction(1)
+    for at, symbol in enumerate(message):
+        weights = told.after(message[:at])
+        low += width * Fraction(sum(weights[:symbol]), sum(weights))
+        width *= Fraction(weights[symbol], sum(weights))
+    return low, low + width
+
+
+def is_inside(bits, part):
+    """Whether bits stand only for fractions of a part."""
+    low = sum((Fraction(bit, 2 ** at) for at, bit in enumerate(bits, 1)), Fraction(0))
+    return part[0] <= low and low + Fraction(1, 2 ** len(bits)) <= part[1]
+
+
+def code_of(part):
+    """The shortest bits that stand only for fractions of a part, and of those the least."""
+    for count in range(10000):
+        # The first of the parts of this size that does not begin too low.
+        number = -(-part[0].numerator * 2 ** count // part[0].denominator)
+        if Fraction(number + 1, 2 ** count) <= part[1]:
+            return [int(bit) for bit in format(number, f"0{count}b")] if count else []
+
+
+def decoding(told, bits, count):
+    """What decoding gives: the message, or (name of the error, its place)."""
+    message = []
+    while len(message) < count:
+        found = [symbol for symbol in range(len(told.after(message)))
+                 if is_inside(bits, part_of(told, message + [symbol]))]
+        if not found:
+            return "Undecided", len(message)
+        message = message + found
+    return message

@@ -6,7 +6,8 @@ import inspect
 import unittest
 from pathlib import Path
 
-from kraftroom import errors, least, prefix
+from kraftroom import alphabetic, certificates, errors, intervals, least, models, prefix
+from kraftroom.models import Context, Counts, Learner
 from tests import reference
 
 PACKAGE = Path(__file__).resolve().parent.parent / "kraftroom"
@@ -26,7 +27,48 @@ INTERFACE = {
         "least_lengths": ["weights", "limit"],
         "packaged_lengths": ["weights", "limit"],
     },
+    certificates: {
+        "make_certificate": ["weights", "limit"],
+        "is_shown": ["weights", "limit", "lengths", "certificate"],
+    },
+    alphabetic: {
+        "range_values": ["weights"],
+        "alphabetic_words": ["weights"],
+        "shows_least": ["weights", "cost", "table"],
+    },
+    intervals: {
+        "interval": ["model", "message"],
+        "least_exponent": ["width", "whole"],
+        "encode_message": ["model", "message"],
+        "decode_message": ["model", "bits", "count"],
+    },
 }
+CLASSES = {
+    errors: {
+        "KraftroomError": ["place"],
+        "Truncated": ["place"],
+        "InvalidWord": ["place"],
+        "Undecided": ["place"],
+        "InvalidBlock": ["place"],
+    },
+    models: {
+        "Counts": ["weights"],
+        "Learner": ["size", "step", "limit"],
+        "Context": ["size", "step", "limit"],
+    },
+}
+FOUR = {(0, 0, 1): 15, (1, 0, 2): 6, (2, 0, 4): 0, (2, 1, 2): 2, (3, 0, 4): 0, (3, 1, 3): 0, (3, 2, 2): 0,
+        (3, 3, 1): 0}
+THREE = {(0, 1): 0, (1, 2): 0, (2, 3): 0, (0, 2): 6, (1, 3): 6, (0, 3): 13}
+
+
+def learned(model):
+    """The model after it learned some symbols."""
+    for symbol in (2, 2, 1, 0, 1):
+        model.learn(symbol)
+    return model
+
+
 CALLS = [
     (prefix.room, [[2, 0, 1, 3]]),
     (prefix.is_code, [[2, 0, 1, 3]]),
@@ -42,7 +84,39 @@ CALLS = [
     (least.least_lengths, [[1, 5, 0, 2], 3]),
     (least.packaged_lengths, [[1, 5, 0, 2], 3]),
     (least.packaged_lengths, [[7, 3, 9, 0, 3] * 12, 20]),
+    (certificates.make_certificate, [[1, 5, 0, 2], 3]),
+    (certificates.make_certificate, [[1, 5, 0, 2], 2]),
+    (certificates.is_shown, [[5, 1, 1, 2], 3, [1, 3, 3, 2], FOUR]),
+    (certificates.is_shown, [[5, 1, 1, 2], 3, [1, 3, 3, 2], {**FOUR, (3, 2, 2): 1}]),
+    (certificates.is_shown, [[5, 1, 1, 2], 3, [1, 3, 3, 2], {(0, 0, 1): 15, (1, 0, 2): 6}]),
+    (certificates.is_shown, [[5, 1, 1, 2], 3, [3, 1, 2], FOUR]),
+    (alphabetic.range_values, [[1, 5, 0, 2]]),
+    (alphabetic.alphabetic_words, [[1, 5, 0, 2]]),
+    (alphabetic.shows_least, [[1, 5, 1], 13, THREE]),
+    (alphabetic.shows_least, [[1, 5, 1], 13, {**THREE, (0, 2): 7}]),
+    (models.Counts, [[1, 0, 5]]),
+    (models.Learner, [3, 4, 8]),
+    (models.Context, [3, 4, 8]),
+    (intervals.interval, [Counts([1, 0, 3]), [2, 0, 2]]),
+    (intervals.interval, [learned(Learner(3, 4, 8)), [2, 0, 1]]),
+    (intervals.interval, [learned(Context(3, 4, 8)), [2, 0, 1]]),
+    (intervals.least_exponent, [9, 16]),
+    (intervals.encode_message, [Counts([1, 0, 3]), [2, 0, 2]]),
+    (intervals.encode_message, [learned(Learner(3, 4, 8)), [2, 0, 1]]),
+    (intervals.encode_message, [learned(Context(3, 4, 8)), [2, 0, 1]]),
+    (intervals.decode_message, [Counts([1, 0, 3]), [1, 0, 1, 0, 1, 1], 2]),
+    (intervals.decode_message, [learned(Learner(3, 4, 8)), [1, 0, 1, 0, 1, 1, 1, 1, 0], 2]),
+    (intervals.decode_message, [learned(Context(3, 4, 8)), [1, 0, 1, 0, 1, 1, 1, 1, 0], 2]),
 ]
+
+
+def plain(worth):
+    """A value with its models replaced by what they hold, so that it can be compared."""
+    if isinstance(worth, (list, tuple)):
+        return [isinstance(worth, tuple)] + [plain(part) for part in worth]
+    if isinstance(worth, (Counts, Learner, Context)):
+        return [worth.__class__.__name__, {name: plain(part) for name, part in vars(worth).items()}]
+    return worth
 
 
 def module_trees():
@@ -59,15 +133,23 @@ class Interface(unittest.TestCase):
                     self.assertEqual(list(inspect.signature(function).parameters), parameters)
 
     def test_classes_stand_where_they_are_listed(self):
-        for name in ("KraftroomError", "Truncated", "InvalidWord", "Undecided", "InvalidBlock"):
-            found = getattr(errors, name)
-            self.assertEqual(found.__module__, "kraftroom.errors")
-            self.assertEqual(list(inspect.signature(found).parameters), ["place"])
+        for module, classes in CLASSES.items():
+            for name, parameters in classes.items():
+                with self.subTest(module=module.__name__, name=name):
+                    found = getattr(module, name)
+                    self.assertEqual(found.__module__, module.__name__)
+                    self.assertEqual(list(inspect.signature(found).parameters), parameters)
+
+    def test_each_function_and_class_is_called(self):
+        listed = {(module.__name__, name) for module, functions in INTERFACE.items() for name in functions}
+        listed |= {(models.__name__, name) for name in CLASSES[models]}
+        self.assertEqual({(function.__module__, function.__name__) for function, _ in CALLS}, listed)
 
     def test_arguments_by_name(self):
         for function, arguments in CALLS:
-            parameters = INTERFACE[inspect.getmodule(function)][function.__name__]
-            self.assertEqual(function(**dict(zip(parameters, arguments))), function(*arguments))
+            module = inspect.getmodule(function)
+            parameters = {**INTERFACE, **CLASSES}[module][function.__name__]
+            self.assertEqual(plain(function(**dict(zip(parameters, arguments)))), plain(function(*arguments)))
 
 
 class Arguments(unittest.TestCase):
@@ -76,7 +158,7 @@ class Arguments(unittest.TestCase):
             with self.subTest(function=function.__name__):
                 passed = copy.deepcopy(arguments)
                 function(*passed)
-                self.assertEqual(passed, arguments)
+                self.assertEqual(plain(passed), plain(arguments))
 
     def test_no_argument_is_modified_when_reading_fails(self):
         for bits in ([1, 1, 1], [1, 1]):
@@ -86,12 +168,36 @@ class Arguments(unittest.TestCase):
                 prefix.read_symbols(lengths, passed, 0, 2)
             self.assertEqual([lengths, passed], [[2, 0, 1, 3], bits])
 
+    def test_no_argument_is_modified_when_bits_are_undecided(self):
+        for model in (Counts([1, 0, 3]), learned(Learner(3, 4, 8)), learned(Context(3, 4, 8))):
+            kept = copy.deepcopy(model)
+            bits = [1, 1, 0]
+            with self.assertRaises(errors.Undecided):
+                intervals.decode_message(model, bits, 9)
+            self.assertEqual([plain(model), bits], [plain(kept), [1, 1, 0]])
+
+    def test_models_change_no_argument_when_they_learn(self):
+        weights = [1, 0, 5]
+        learned(Counts(weights))
+        self.assertEqual(weights, [1, 0, 5])
+
+    def test_only_learning_changes_a_model(self):
+        for model in (Counts([1, 0, 3]), learned(Learner(3, 4, 8)), learned(Context(3, 4, 8))):
+            kept = plain(copy.deepcopy(model))
+            for number in range(model.total()):
+                model.symbol_at(number)
+            for symbol in range(model.size()):
+                model.low(symbol)
+                model.weight(symbol)
+            learned(model.fresh())
+            self.assertEqual(plain(model), kept)
+
     def test_the_same_call_gives_the_same_again(self):
         first = [function(*copy.deepcopy(arguments)) for function, arguments in CALLS]
         kept = copy.deepcopy(first)
         again = [function(*copy.deepcopy(arguments)) for function, arguments in CALLS[::-1]]
-        self.assertEqual(again[::-1], kept)
-        self.assertEqual(first, kept)
+        self.assertEqual(plain(again[::-1]), plain(kept))
+        self.assertEqual(plain(first), plain(kept))
 
     def test_what_is_returned_is_not_an_argument(self):
         for function, arguments in CALLS:
@@ -160,6 +266,50 @@ class BeyondLimits(unittest.TestCase):
         for limit in (1, 3):
             self.assertEqual(least.least_lengths([5], limit), [1])
             self.assertEqual(least.packaged_lengths([5], limit), [1])
+
+    def test_certificates_beyond(self):
+        for weights, limit in (([5], 1), ([5], 4), ([2000000 + 7 * at for at in range(20)], 18), ([3] * 20, 5)):
+            lengths, certificate = certificates.make_certificate(weights, limit)
+            self.assertEqual(lengths, least.least_lengths(weights, limit))
+            self.assertIs(certificates.is_shown(weights, limit, lengths, certificate), True)
+            for value in (certificate[(0, 0, 1)] - 1, certificate[(0, 0, 1)] + 1):
+                wrong = {**certificate, (0, 0, 1): value}
+                self.assertIs(certificates.is_shown(weights, limit, lengths, wrong), False)
+        certificate = certificates.make_certificate([0, 0], 22)[1]
+        self.assertIs(certificates.is_shown([0, 0], 22, [1, 22], certificate), True)
+        self.assertIs(certificates.is_shown([0, 0], 22, [1, 23], certificate), False)
+
+    def test_certificate_with_a_limit_that_is_too_small(self):
+        lengths, certificate = certificates.make_certificate([1, 1, 1], 1)
+        self.assertIsNone(lengths)
+        for wrong in ([1, 1, 1], [1, 2, 2], [1, 1, 0]):
+            self.assertIs(certificates.is_shown([1, 1, 1], 1, wrong, certificate), False)
+
+    def test_alphabetic_codes_beyond(self):
+        weights = [2000000 + 7 * at for at in range(20)]
+        table = alphabetic.range_values(weights)
+        least_cost = reference.least_alphabetic_cost(weights)
+        self.assertEqual(table[(0, 20)], least_cost)
+        self.assertIs(alphabetic.shows_least(weights, least_cost, table), True)
+        found = [len(word) for word in alphabetic.alphabetic_words(weights)]
+        self.assertEqual(least.cost(weights, found), least_cost)
+        self.assertEqual([alphabetic.range_values([]), alphabetic.alphabetic_words([])], [{}, []])
+        self.assertIs(alphabetic.shows_least([], 0, {}), False)
+
+    def test_models_beyond(self):
+        for model in (models.Learner(70, 200, 20000), models.Context(70, 200, 20000), models.Counts([3] * 70)):
+            message = list(range(70)) * 3
+            bits = intervals.encode_message(model, message)
+            self.assertEqual(intervals.decode_message(model, bits, 210), message)
+        # a limit that is less than the size holds no weight below 1
+        model = models.Learner(5, 3, 2)
+        model.learn(4)
+        self.assertEqual([model.weight(symbol) for symbol in range(5)], [1, 1, 1, 1, 2])
+
+    def test_coding_a_symbol_without_weight_comes_to_an_end(self):
+        self.assertEqual(intervals.interval(models.Counts([1, 0]), [0, 1]), (1, 0, 1))
+        intervals.encode_message(models.Counts([1, 0]), [0, 1])
+        intervals.least_exponent(0, 5)
 
     def test_limit_that_is_too_small(self):
         self.assertIsNone(least.values([1, 1, 1], 1)[(0, 0, 1)])
