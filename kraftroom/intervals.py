@@ -1,7 +1,7 @@
 """Messages as fractions: intervals, and the shortest bits within them."""
 
 from kraftroom.errors import Undecided
-from kraftroom.prefix import field_bits
+from kraftroom.fields import bits_number, field_bits
 
 EMPTY = (0, 1, 1)
 
@@ -55,14 +55,6 @@ def encode_message(model, message):
     if not holds(span, first_number(span, count), count):
         count += 1
     return field_bits(first_number(span, count), count)
-
-
-def bits_number(bits):
-    """Return the bits read as an integer."""
-    number = 0
-    for bit in bits:
-        number = 2 * number + bit
-    return number
 
 
 def symbol_of(span, model, number, count):

@@ -1,6 +1,7 @@
 """Prefix codes that are given by the lengths of their words."""
 
 from kraftroom.errors import InvalidWord, Truncated
+from kraftroom.fields import field_bits
 
 LONGEST = 20
 ROOT = 1
@@ -18,11 +19,6 @@ def room(lengths):
 def is_code(lengths):
     """Return True if the lengths belong to a code, otherwise False."""
     return room(lengths) >= 0 and any(length != 0 for length in lengths)
-
-
-def field_bits(number, width):
-    """Return the field of a width that holds a number."""
-    return [(number >> at) & 1 for at in range(width - 1, -1, -1)]
 
 
 def words(lengths):

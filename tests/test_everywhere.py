@@ -6,9 +6,10 @@ import inspect
 import unittest
 from pathlib import Path
 
-from kraftroom import alphabetic, certificates, errors, intervals, least, models, prefix
+from kraftroom import (alphabetic, archives, blocks, certificates, errors, integers, intervals, least, models, numbers,
+                       prefix)
 from kraftroom.models import Context, Counts, Learner
-from tests import reference
+from tests import reference, reference_bits
 
 PACKAGE = Path(__file__).resolve().parent.parent / "kraftroom"
 INTERFACE = {
@@ -42,6 +43,36 @@ INTERFACE = {
         "encode_message": ["model", "message"],
         "decode_message": ["model", "bits", "count"],
     },
+    numbers: {
+        "push": ["low", "weight", "total", "number"],
+        "pop": ["model", "number"],
+        "pack": ["model", "message", "number"],
+        "unpack": ["model", "number", "count"],
+        "pack_words": ["model", "message"],
+        "unpack_words": ["model", "state", "words", "count"],
+    },
+    integers: {
+        "gamma_bits": ["n"],
+        "delta_bits": ["n"],
+        "rice_bits": ["k", "n"],
+        "fibonacci_bits": ["n"],
+        "read_gamma": ["bits", "at"],
+        "read_delta": ["bits", "at"],
+        "read_rice": ["k", "bits", "at"],
+        "read_fibonacci": ["bits", "at"],
+    },
+    blocks: {
+        "block_lengths": ["counts"],
+        "body": ["size", "block", "form"],
+        "write_block": ["size", "block"],
+        "read_block": ["size", "bits", "at"],
+    },
+    archives: {
+        "write_archive": ["size", "chunk", "message"],
+        "open_archive": ["bits"],
+        "read_archive": ["size", "bits"],
+        "read_symbol": ["size", "bits", "index"],
+    },
 }
 CLASSES = {
     errors: {
@@ -60,6 +91,8 @@ CLASSES = {
 FOUR = {(0, 0, 1): 15, (1, 0, 2): 6, (2, 0, 4): 0, (2, 1, 2): 2, (3, 0, 4): 0, (3, 1, 3): 0, (3, 2, 2): 0,
         (3, 3, 1): 0}
 THREE = {(0, 1): 0, (1, 2): 0, (2, 3): 0, (0, 2): 6, (1, 3): 6, (0, 3): 13}
+BLOCK = [0, 1, 2, 0, 2, 2]
+ARCHIVE = archives.write_archive(3, 4, BLOCK)
 
 
 def learned(model):
@@ -107,6 +140,55 @@ CALLS = [
     (intervals.decode_message, [Counts([1, 0, 3]), [1, 0, 1, 0, 1, 1], 2]),
     (intervals.decode_message, [learned(Learner(3, 4, 8)), [1, 0, 1, 0, 1, 1, 1, 1, 0], 2]),
     (intervals.decode_message, [learned(Context(3, 4, 8)), [1, 0, 1, 0, 1, 1, 1, 1, 0], 2]),
+    (numbers.push, [1, 3, 4, 27]),
+    (numbers.pop, [Counts([1, 0, 3]), 27]),
+    (numbers.pop, [learned(Learner(3, 4, 8)), 27]),
+    (numbers.pop, [learned(Context(3, 4, 8)), 27]),
+    (numbers.pack, [Counts([1, 0, 3]), [2, 0, 2], 5]),
+    (numbers.pack, [learned(Learner(3, 4, 8)), [2, 0, 1], 5]),
+    (numbers.pack, [learned(Context(3, 4, 8)), [2, 0, 1], 5]),
+    (numbers.unpack, [Counts([1, 0, 3]), 12345, 4]),
+    (numbers.unpack, [learned(Learner(3, 4, 8)), 12345, 4]),
+    (numbers.unpack, [learned(Context(3, 4, 8)), 12345, 4]),
+    (numbers.pack_words, [Counts([1, 0, 3]), [2, 0, 2] * 9]),
+    (numbers.unpack_words, [Counts([1, 0, 3]), 65536, [9, 200, 0, 255], 9]),
+    (integers.gamma_bits, [27]),
+    (integers.delta_bits, [27]),
+    (integers.rice_bits, [3, 27]),
+    (integers.fibonacci_bits, [27]),
+    (integers.read_gamma, [[1, 0, 0, 1, 0, 1, 1], 1]),
+    (integers.read_delta, [[1, 0, 1, 1, 0, 1, 1], 1]),
+    (integers.read_rice, [2, [1, 0, 0, 1, 0, 1, 1], 3]),
+    (integers.read_fibonacci, [[1, 0, 0, 1, 0, 1, 1], 1]),
+    (blocks.block_lengths, [[5, 0, 1, 2]]),
+    (blocks.block_lengths, [[0, 0, 3]]),
+    (blocks.write_block, [3, []]),
+    (blocks.write_block, [3, BLOCK]),
+    (archives.write_archive, [3, 4, BLOCK]),
+    (archives.write_archive, [3, 4, []]),
+    (archives.open_archive, [ARCHIVE]),
+    (archives.read_archive, [3, ARCHIVE]),
+    (archives.read_symbol, [3, ARCHIVE, 5]),
+    (archives.read_symbol, [3, ARCHIVE, 6]),
+    *((blocks.body, [3, BLOCK, form]) for form in range(4)),
+    *((blocks.read_block, [3, [1, 0] + reference_bits.block_in(3, BLOCK, form) + [1], 2]) for form in range(4)),
+]
+# Calls that raise an error of the program.
+FAILING = [
+    (prefix.read_symbols, [[2, 0, 1, 3], [1, 1, 1], 0, 2]),
+    (prefix.read_symbols, [[2, 0, 1, 3], [1, 1], 0, 2]),
+    (intervals.decode_message, [Counts([1, 0, 3]), [1, 1, 0], 9]),
+    (intervals.decode_message, [learned(Learner(3, 4, 8)), [1, 1, 0], 9]),
+    (intervals.decode_message, [learned(Context(3, 4, 8)), [1, 1, 0], 9]),
+    (numbers.unpack_words, [Counts([1, 0, 3]), 65536, [9, 200], 99]),
+    (integers.read_gamma, [[0] * 50, 0]),
+    (integers.read_delta, [[0] * 9, 0]),
+    (integers.read_rice, [3, [1] * 9, 0]),
+    (integers.read_fibonacci, [[1, 0] * 9, 0]),
+    (archives.open_archive, [ARCHIVE[:-1]]),
+    (archives.read_archive, [2, ARCHIVE]),
+    (archives.read_symbol, [2, ARCHIVE, 4]),
+    *((blocks.read_block, [3, reference_bits.block_in(3, BLOCK, form)[:-1], 0]) for form in range(4)),
 ]
 
 
@@ -161,20 +243,14 @@ class Arguments(unittest.TestCase):
                 self.assertEqual(plain(passed), plain(arguments))
 
     def test_no_argument_is_modified_when_reading_fails(self):
-        for bits in ([1, 1, 1], [1, 1]):
-            lengths = [2, 0, 1, 3]
-            passed = list(bits)
-            with self.assertRaises(errors.KraftroomError):
-                prefix.read_symbols(lengths, passed, 0, 2)
-            self.assertEqual([lengths, passed], [[2, 0, 1, 3], bits])
-
-    def test_no_argument_is_modified_when_bits_are_undecided(self):
-        for model in (Counts([1, 0, 3]), learned(Learner(3, 4, 8)), learned(Context(3, 4, 8))):
-            kept = copy.deepcopy(model)
-            bits = [1, 1, 0]
-            with self.assertRaises(errors.Undecided):
-                intervals.decode_message(model, bits, 9)
-            self.assertEqual([plain(model), bits], [plain(kept), [1, 1, 0]])
+        for function, arguments in FAILING:
+            with self.subTest(function=function.__name__):
+                passed = copy.deepcopy(arguments)
+                with self.assertRaises(errors.KraftroomError) as caught:
+                    function(*passed)
+                self.assertEqual(plain(passed), plain(arguments))
+                self.assertEqual(caught.exception.name, type(caught.exception).__name__)
+                self.assertIs(type(caught.exception.place), int)
 
     def test_models_change_no_argument_when_they_learn(self):
         weights = [1, 0, 5]
@@ -201,11 +277,13 @@ class Arguments(unittest.TestCase):
 
     def test_what_is_returned_is_not_an_argument(self):
         for function, arguments in CALLS:
-            found = function(*arguments)
-            if isinstance(found, list):
-                found.clear()
-                self.assertEqual([len(part) > 0 for part in arguments if isinstance(part, list)],
-                                 [True for part in arguments if isinstance(part, list)])
+            with self.subTest(function=function.__name__):
+                passed = copy.deepcopy(arguments)
+                found = function(*passed)
+                for part in found if isinstance(found, tuple) else [found]:
+                    if isinstance(part, (list, dict)):
+                        part.clear()
+                self.assertEqual(plain(passed), plain(arguments))
 
 
 class NothingFromOutside(unittest.TestCase):
@@ -310,6 +388,56 @@ class BeyondLimits(unittest.TestCase):
         self.assertEqual(intervals.interval(models.Counts([1, 0]), [0, 1]), (1, 0, 1))
         intervals.encode_message(models.Counts([1, 0]), [0, 1])
         intervals.least_exponent(0, 5)
+
+    def test_numbers_beyond(self):
+        model = models.Counts([3] * 70)
+        message = list(range(70))
+        self.assertEqual(numbers.unpack(model, numbers.pack(model, message, 1 << 70), 70), (message, 1 << 70))
+        # totals that do not divide 1 << 16, and some that are greater than all states
+        for weights in ([1, 2], [3] * 70, [1 << 16, 1 << 16], [1 << 23, 1 << 23], [1 << 24, 1], [1 << 30, 5]):
+            state, words = numbers.pack_words(models.Counts(weights), [0, 1, 1, 0] * 5)
+            self.assertEqual([type(state), type(words)], [int, list])
+        # states outside of the range
+        self.assertEqual(numbers.unpack_words(models.Counts([1, 1]), 1 << 30, [], 3), ([0, 0, 0], 1 << 27, 0))
+        self.assertEqual(numbers.unpack_words(models.Counts([1, 1]), 5, [1, 2], 1), ([1], 2 * 65536 + 258, 2))
+
+    def test_integers_beyond(self):
+        for n in (0, 1 << 40, 1 << 64):
+            for function in (integers.gamma_bits, integers.delta_bits, integers.fibonacci_bits):
+                self.assertEqual({type(bit) for bit in function(n)} - {int}, set())
+        self.assertEqual(integers.read_rice(25, integers.rice_bits(25, 1 << 27), 0), (1 << 27, 30))
+        self.assertEqual(integers.read_fibonacci(integers.fibonacci_bits(1 << 64), 0)[0], 1 << 64)
+        for read in (integers.read_gamma, integers.read_delta, integers.read_fibonacci):
+            with self.assertRaises(errors.Truncated) as caught:
+                read([1, 1], 3)
+            self.assertEqual(caught.exception.place, 2)
+
+    def test_blocks_beyond(self):
+        for size, block in ((1, [0, 0, 0]), (17, list(range(17)) * 2), (20, list(range(20))), (2, [0, 1, 1] * 110)):
+            bits = blocks.write_block(size, block)
+            if len(block) <= 300:
+                self.assertEqual(blocks.read_block(size, bits, 0), (block, len(bits)))
+                for form in range(4):
+                    bits = integers.gamma_bits(len(block) + 1) + [form >> 1, form & 1] + blocks.body(size, block, form)
+                    self.assertEqual(blocks.read_block(size, bits, 0), (block, len(bits)))
+            else:
+                with self.assertRaises(errors.InvalidBlock) as caught:
+                    blocks.read_block(size, bits, 0)
+                self.assertEqual(caught.exception.place, 0)
+        self.assertEqual([blocks.body(3, [], form) for form in range(4)], [[], [0] * 12, [1] * 4, [1]])
+        self.assertEqual(blocks.block_lengths([0, 0]), [0, 0])
+
+    def test_archives_beyond(self):
+        bits = archives.write_archive(17, 3, list(range(17)))
+        self.assertEqual(archives.read_archive(17, bits), list(range(17)))
+        # a chunk of 0 is taken as 1
+        self.assertEqual(archives.read_archive(2, archives.write_archive(2, 0, [1, 0])), [1, 0])
+        for chunk, message, place in ((300, [0] * 3001, 0), (301, [1] * 5, 5)):
+            with self.assertRaises(errors.InvalidBlock) as caught:
+                archives.open_archive(archives.write_archive(2, chunk, message))
+            self.assertEqual(caught.exception.place, place)
+        for index in (-1, -2, -7):
+            self.assertIsNone(archives.read_symbol(3, ARCHIVE, index))
 
     def test_limit_that_is_too_small(self):
         self.assertIsNone(least.values([1, 1, 1], 1)[(0, 0, 1)])
